@@ -1,0 +1,1 @@
+"""Sayings about places and sets of places, and the machines that know them."""
