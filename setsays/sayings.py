@@ -1,5 +1,6 @@
 """Sayings: their forms, how great they may be, and in which frames they are let."""
 
+from setsays.errors import NoFrame, NoSaying
 from setsays.names import MOST_NAMES, is_frame, is_name, is_place, is_set
 
 DEEPEST = 12
@@ -91,6 +92,14 @@ def is_saying(thing, frame):
 def is_tree_saying(thing, frame):
     """Whether the thing is a saying that is let in the frame for trees."""
     return is_frame(frame) and is_any_saying(thing) and is_let(thing, frame, ROW_WORDS, MOST_TREE_NAMES)
+
+
+def check_let(saying, frame):
+    """Refuses what is no frame, and then what is no saying that is let in it."""
+    if not is_frame(frame):
+        raise NoFrame("what is handed in as the frame is none")
+    if not is_saying(saying, frame):
+        raise NoSaying("what is handed in as the saying is none that is let in the frame")
 
 
 def untold_names(saying, told):

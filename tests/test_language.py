@@ -101,6 +101,48 @@ class LanguageTest(unittest.TestCase):
                     if isinstance(node, ast.arguments):
                         self.assertFalse(node.vararg or node.kwarg or node.kwonlyargs or node.posonlyargs)
 
+    def test_narrower_forms(self):
+        for path, text, tree in self.walk():
+            for node in ast.walk(tree):
+                with self.subTest(path=path.name, node=ast.dump(node)[:80]):
+                    if isinstance(node, ast.Compare) and any(isinstance(op, (ast.Is, ast.IsNot)) for op in node.ops):
+                        self.assertIn(ast.unparse(node.comparators[-1]), ("None", "True", "False"))
+                    if isinstance(node, ast.BinOp) and isinstance(node.op, ast.Pow):
+                        self.assertIsInstance(node.right, ast.Constant)
+                    if isinstance(node, ast.Constant) and isinstance(node.value, str):
+                        self.assertNotIn(chr(37), node.value)
+                    if isinstance(node, ast.FormattedValue):
+                        self.assertIsInstance(node.value, ast.Name)
+                    if isinstance(node, ast.FunctionDef):
+                        self.assertIsNone(node.returns)
+                    if isinstance(node, ast.arg):
+                        self.assertIsNone(node.annotation)
+                    if isinstance(node, ast.ExceptHandler):
+                        self.assertNotIn(ast.unparse(node.type), ("Exception", "TypeError"))
+                    if isinstance(node, ast.ClassDef):
+                        self.assertLessEqual(len(node.bases), 1)
+                        for part in node.body:
+                            self.assertIsInstance(part, (ast.FunctionDef, ast.Expr))
+
+    def test_sets_are_not_kept(self):
+        for path, text, tree in self.walk():
+            calls = [node for node in ast.walk(tree) if isinstance(node, ast.Call) and isinstance(node.func, ast.Name)]
+            straight = [part for call in calls if call.func.id in ("sorted", "len") for part in call.args]
+            for call in calls:
+                if call.func.id in ("set", "frozenset"):
+                    self.assertIn(call, straight, path.name)
+
+    def test_no_two_files_draw_from_one_another(self):
+        drawn = {}
+        for path, text, tree in self.walk():
+            sources = [node.module for node in ast.walk(tree) if isinstance(node, ast.ImportFrom)]
+            drawn["setsays." + path.stem] = sources
+        while drawn:
+            free = [name for name in drawn if not any(source in drawn for source in drawn[name])]
+            self.assertNotEqual(free, [], drawn)
+            for name in free:
+                drawn.pop(name)
+
     def test_imports_are_of_the_package_from_the_file_that_defines_the_name(self):
         for path, text, tree in self.walk():
             for node in ast.walk(tree):
