@@ -4,13 +4,12 @@ from setsays.errors import NoRow
 from setsays.leftovers import Leftovers
 from setsays.names import is_place
 from setsays.sayings import check_let
+from setsays.wholes import is_below
 
 
 def is_letter(thing, tracks):
     """Whether the thing is a letter of so many tracks."""
-    if not isinstance(thing, int) or isinstance(thing, bool):
-        return False
-    return 0 <= thing < 1 << tracks
+    return is_below(thing, 1 << tracks)
 
 
 def check_row(frame, row):

@@ -94,10 +94,15 @@ def is_tree_saying(thing, frame):
     return is_frame(frame) and is_any_saying(thing) and is_let(thing, frame, ROW_WORDS, MOST_TREE_NAMES)
 
 
-def check_let(saying, frame):
-    """Refuses what is no frame, and then what is no saying that is let in it."""
+def check_frame(frame):
+    """Refuses what is no frame."""
     if not is_frame(frame):
         raise NoFrame("what is handed in as the frame is none")
+
+
+def check_let(saying, frame):
+    """Refuses what is no frame, and then what is no saying that is let in it."""
+    check_frame(frame)
     if not is_saying(saying, frame):
         raise NoSaying("what is handed in as the saying is none that is let in the frame")
 

@@ -9,11 +9,7 @@ from setsays.errors import NoFrame, NoRow, NoSaying
 from setsays.rows import fits, holds
 from setsays.sayings import is_saying
 from setsays.texts import read
-
-NO_FRAMES = (
-    None, True, 0, "x", (), ("x", "X"), {}, ["x", "x"], ["x", "X", "y", "Y", "z"], ["x", None], ["xy"], [["x"]],
-    ["x1234", "X"], object(),
-)
+from tests.helpers import NO_FRAMES, every_row
 
 
 def stands_for(name, names, row):
@@ -60,12 +56,6 @@ def by_every_choice(saying, names, row):
     return any(found) if word == "some" else all(found)
 
 
-def every_row(frame, most):
-    for length in range(most + 1):
-        for row in itertools.product(range(2 ** len(frame)), repeat=length):
-            yield list(row)
-
-
 class HoldsCase(unittest.TestCase):
 
     def check(self, text, frame, row, truth):
@@ -85,7 +75,7 @@ class HoldsCase(unittest.TestCase):
             self.assertIs(caught.exception.__class__, error)
 
     def check_every_row(self, saying, frame, most):
-        for row in every_row(frame, most):
+        for row in every_row(len(frame), most):
             fit = fits(frame, row)
             wanted = fit and by_every_choice(saying, frame, row)
             if holds(saying, frame, row) is not wanted or holds(("not", saying), frame, row) is not (fit != wanted):
@@ -205,7 +195,7 @@ class SomeAndAllTest(HoldsCase):
         self.check_both("all Y Y within X", ["X"], [1, 0], False)
 
     def test_some_and_all_over_places(self):
-        for row in every_row(["X"], 4):
+        for row in every_row(1, 4):
             self.check_both("some x x in X", ["X"], row, 1 in row)
             self.check_both("all x x in X", ["X"], row, 0 not in row)
             self.check_both("some x not x in X", ["X"], row, 0 in row)
@@ -237,7 +227,7 @@ class SomeAndAllTest(HoldsCase):
             self.check_both(text, [], [0] * length, length % 2 == 0)
 
     def test_places_told_apart_by_sets(self):
-        for row in every_row(["x", "y"], 4):
+        for row in every_row(2, 4):
             if fits(["x", "y"], row):
                 self.check_both("all X (not x in X or y in X)", ["x", "y"], row, 3 in row)
 
@@ -245,7 +235,7 @@ class SomeAndAllTest(HoldsCase):
         # Each such set with a place has the last place, and one has no other.
         text = ("all X ((not some x x in X or some x (x in X and x in A))"
                 " or some x some y (x next y and (x in X and not y in X)))")
-        for row in every_row(["A"], 5):
+        for row in every_row(1, 5):
             self.check_both(text, ["A"], row, row[-1:] != [0])
 
     def test_sets_of_long_rows(self):

@@ -7,34 +7,18 @@ import unittest
 
 from setsays.errors import NoWidth
 from setsays.machines import gone, parted, reduced, takes
+from tests.helpers import A_ONE, ALL, ENDS_ONE_NOUGHT, EVEN, NOTHING, every_row, made_up_machine, of_right_kinds
 
-ALL = (1, ((0, 0),), (True,))
-NOTHING = (1, ((0, 0),), (False,))
-# Rows with an even number of ones; rows with a one; rows of exactly two letters; rows that end with 1, 0.
-EVEN = (1, ((0, 1), (1, 0)), (True, False))
-A_ONE = (1, ((0, 1), (1, 1)), (False, True))
+# Rows of exactly two letters.
 TWO_LETTERS = (1, ((1, 1), (2, 2), (3, 3), (3, 3)), (False, False, True, False))
-ENDS_ONE_NOUGHT = (1, ((0, 1), (2, 1), (0, 1)), (False, False, True))
 # No track: the one letter is 0. Rows whose length is a multiple of three.
 BY_THREES = (0, ((1,), (2,), (0,)), (True, False, False))
-
-
-def every_row(tracks, most):
-    """All rows of so many letters at most: the shorter first, and of one length in the order of lists."""
-    for length in range(most + 1):
-        for row in itertools.product(range(2 ** tracks), repeat=length):
-            yield list(row)
 
 
 def room_from(machine, room, row):
     for letter in row:
         room = machine[1][room][letter]
     return room
-
-
-def made_up(chance, tracks, rooms):
-    ways = [tuple([chance.randrange(rooms) for letter in range(2 ** tracks)]) for room in range(rooms)]
-    return (tracks, tuple(ways), tuple([chance.random() < 0.5 for room in range(rooms)]))
 
 
 def reduced_by_rows(machine):
@@ -68,14 +52,6 @@ def scattered(chance, machine):
             ends[place] = chance.random() < 0.5
             ways[place] = tuple([chance.randrange(len(numbers)) for to in machine[1][room]])
     return (machine[0], tuple(ways), tuple(ends))
-
-
-def of_right_kinds(machine):
-    tracks, ways, ends = machine
-    return (machine.__class__ is tuple and ways.__class__ is tuple and ends.__class__ is tuple
-            and all(way.__class__ is tuple and len(way) == 2 ** tracks for way in ways)
-            and all(room.__class__ is int and 0 <= room < len(ways) for way in ways for room in way)
-            and len(ends) == len(ways) >= 1 and all(end.__class__ is bool for end in ends))
 
 
 class GoneAndTakesTest(unittest.TestCase):
@@ -133,7 +109,7 @@ class GoneAndTakesTest(unittest.TestCase):
         chance = random.Random(12)
         for tracks in range(5):
             for rooms in (1, 2, 3, 7, 20):
-                machine = made_up(chance, tracks, rooms)
+                machine = made_up_machine(chance, tracks, rooms)
                 row = [chance.randrange(2 ** tracks) for letter in range(40)]
                 whole = gone(machine, row)
                 self.assertEqual(len(whole), 41)
@@ -225,14 +201,14 @@ class ReducedTest(unittest.TestCase):
         chance = random.Random(13)
         for tracks, most in ((0, 9), (1, 7), (2, 5), (3, 3), (4, 3)):
             for time in range(60):
-                machine = made_up(chance, tracks, chance.randrange(1, most + 1))
+                machine = made_up_machine(chance, tracks, chance.randrange(1, most + 1))
                 self.check(machine, reduced_by_rows(machine))
 
     def test_the_same_rows_are_taken(self):
         chance = random.Random(130)
         for tracks in range(5):
             for rooms in (1, 4, 12, 40):
-                machine = made_up(chance, tracks, rooms)
+                machine = made_up_machine(chance, tracks, rooms)
                 found = reduced(machine)
                 self.assertLessEqual(len(found[1]), rooms)
                 self.assertEqual(found[0], tracks)
@@ -244,7 +220,7 @@ class ReducedTest(unittest.TestCase):
         chance = random.Random(131)
         for tracks in range(5):
             for rooms in (1, 2, 5, 17, 48):
-                machine = made_up(chance, tracks, rooms)
+                machine = made_up_machine(chance, tracks, rooms)
                 wanted = reduced(machine)
                 for time in range(5):
                     self.check(scattered(chance, machine), wanted)
@@ -313,8 +289,8 @@ class PartedTest(unittest.TestCase):
         parting = 0
         for tracks, most in ((0, 6), (1, 4), (2, 2), (3, 2), (4, 1)):
             for time in range(80):
-                one = made_up(chance, tracks, chance.randrange(1, most + 1))
-                other = made_up(chance, tracks, chance.randrange(1, most + 1))
+                one = made_up_machine(chance, tracks, chance.randrange(1, most + 1))
+                other = made_up_machine(chance, tracks, chance.randrange(1, most + 1))
                 # Two machines that are not alike part by a row of fewer letters than both have rooms.
                 rows = every_row(tracks, len(one[1]) + len(other[1]) - 1)
                 apart = [row for row in rows if takes(one, row) != takes(other, row)]
@@ -326,7 +302,7 @@ class PartedTest(unittest.TestCase):
         chance = random.Random(140)
         for tracks in range(5):
             for rooms in (1, 3, 10, 30):
-                machine = made_up(chance, tracks, rooms)
+                machine = made_up_machine(chance, tracks, rooms)
                 self.check(machine, reduced(machine), None)
                 self.check(machine, scattered(chance, machine), None)
 
