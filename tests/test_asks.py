@@ -106,6 +106,22 @@ VERDICTS = (
 )
 
 
+# Sayings whose machines are told, with ninety-nine rooms; of the rows that fit and for which they don't hold a hundred
+# and one pairs are come to; a hundred.
+ONE_TOO_MANY = (
+    "((((some w (x next w and w next y) or y in X) and ((some w (w ahead x and not w in X) or not some w (y "
+    "ahead w and not w in X)) and some w (x ahead w and not w in X))) or ((x in X and some w (y next w and w in "
+    "X)) or ((some w (x ahead w and w in X) or not some w w next y) and (some w (w next x and w in X) and not "
+    "some w (w next y and w in X))))) or (some w x next w and not some w w in X))"
+)
+JUST_ENOUGH = (
+    "((((some w (w ahead y and w in X) and x in X) or not some w (w next x and not w in X)) or some w x next w) "
+    "and (((((x in X or some w (y next w and w in X)) and ((some w (x next w and w in X) or some w (w next y and "
+    "not w in X)) and (y in X or some w (w next x and w in X)))) and some w (y ahead w and not w in X)) or (x "
+    "same y or not some w (x ahead w and w in X))) or some w (y next w and w next x)))"
+)
+
+
 class VerdictTest(ProgramCase):
 
     def check_word_by_word(self, saying, frame, longest):
@@ -162,6 +178,15 @@ class VerdictTest(ProgramCase):
     def test_where_the_built_machine_is_too_great(self):
         for frame, text in GREAT:
             self.check_refused(TooGreat, verdict, read(text), frame)
+
+    def test_where_the_met_machine_alone_is_too_great(self):
+        self.assertEqual(len(built(read(ONE_TOO_MANY), ["x", "y", "X"])[1]), 99)
+        self.check_refused(TooGreat, verdict, read(ONE_TOO_MANY), ["x", "y", "X"])
+
+    def test_where_just_a_hundred_pairs_are_come_to(self):
+        self.assertEqual(len(built(read(JUST_ENOUGH), ["x", "y", "X"])[1]), 99)
+        self.check_word_by_word(read(JUST_ENOUGH), ["x", "y", "X"], 4)
+        self.assertEqual(verdict(read(JUST_ENOUGH), ["x", "y", "X"])[0], "no")
 
 
 class HowManyTest(ProgramCase):
