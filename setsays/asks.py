@@ -40,21 +40,22 @@ def counts_from(machine, length):
     return counts
 
 
-def counts_up_to(machine, length):
-    """Those counts, where the length is one; else it is refused."""
+def check_length(length):
+    """Refuses what is no length that is asked for."""
     if not is_below(length, LONGEST + 1):
         raise NoNumber("a length is a whole number from 0 to 100")
-    return counts_from(machine, length)
 
 
 def how_many(machine, length):
     """How many rows of this length the machine takes."""
-    return counts_up_to(machine, length)[length][0]
+    check_length(length)
+    return counts_from(machine, length)[length][0]
 
 
 def row_by(machine, length, number):
     """The row of this length, of those that the machine takes, that has this number in the order of lists."""
-    counts = counts_up_to(machine, length)
+    check_length(length)
+    counts = counts_from(machine, length)
     if not is_below(number, counts[length][0]):
         raise NoNumber("there is no row by this number")
     row = []

@@ -1,6 +1,7 @@
 """The machines of frames and of sayings: built of those of their parts."""
 
 from setsays.joins import dropped, flipped, joined, met, spread
+from setsays.making import maker
 from setsays.names import is_place
 from setsays.sayings import check_frame, check_let
 
@@ -48,23 +49,8 @@ def bare_of(saying, frame):
     return met(spread(rule_of(saying[0]), tracks, len(frame)), fitting_of(frame))
 
 
-def machine_of(saying, frame):
-    """The machine of a saying that is let in the frame."""
-    word = saying[0]
-    if word == "and":
-        return met(machine_of(saying[1], frame), machine_of(saying[2], frame))
-    if word == "or":
-        return joined(machine_of(saying[1], frame), machine_of(saying[2], frame))
-    if word == "not":
-        return met(flipped(machine_of(saying[1], frame)), fitting_of(frame))
-    if word == "some":
-        return dropped(machine_of(saying[2], frame + [saying[1]]), len(frame))
-    if word == "all":
-        return machine_of(("not", ("some", saying[1], ("not", saying[2]))), frame)
-    return bare_of(saying, frame)
-
-
 def built(saying, frame):
     """The machine, reduced, that takes the rows for which the saying holds in the frame."""
     check_let(saying, frame)
+    machine_of = maker(bare_of, fitting_of, met, joined, flipped, dropped)
     return machine_of(saying, frame)

@@ -57,13 +57,13 @@ def finer_sorts(machine, sorts):
     return numbered([(sort,) + renamed(ways, sorts) for sort, ways in zip(sorts, machine[1])])
 
 
-def sorts_of(machine):
-    """For each room the number of its sort: two rooms are of one sort where from both the same rows are taken."""
-    sorts = numbered(machine[2])
-    finer = finer_sorts(machine, sorts)
+def sorts_by(ends, part_further):
+    """For each room the number of its sort: parted by its end's truth, and then further as long as that parts any."""
+    sorts = numbered(ends)
+    finer = part_further(sorts)
     while finer != sorts:
         sorts = finer
-        finer = finer_sorts(machine, sorts)
+        finer = part_further(sorts)
     return sorts
 
 
@@ -71,7 +71,7 @@ def reduced(machine):
     """The machine of the fewest rooms that takes the same rows, its rooms in the order in which they are come to."""
     rooms = reached(machine)
     in_order = picked(machine, rooms, dict([(room, number) for number, room in enumerate(rooms)]))
-    sorts = sorts_of(in_order)
+    sorts = sorts_by(in_order[2], lambda coarser: finer_sorts(in_order, coarser))
     # A sort is come to when the first of its rooms is: so the sorts, as they are numbered, are in order already.
     firsts = [sorts.index(sort) for sort in range(max(sorts) + 1)]
     return picked(in_order, firsts, sorts)

@@ -18,15 +18,20 @@ def check_row(frame, row):
         raise NoRow("a thing of the row is no letter of the frame's tracks")
 
 
-def count_with(row, track):
-    """How many letters of the row have the track."""
-    return sum([(letter >> track) & 1 for letter in row])
+def count_with(letters, track):
+    """How many of the letters have the track."""
+    return sum([(letter >> track) & 1 for letter in letters])
+
+
+def each_place_once(frame, letters):
+    """Whether for each name of a place in the frame just one of the letters has its track."""
+    return all([count_with(letters, track) == 1 for track, name in enumerate(frame) if is_place(name)])
 
 
 def fits(frame, row):
     """Whether for each name of a place in the frame just one letter of the row has its track."""
     check_row(frame, row)
-    return all([count_with(row, track) == 1 for track, name in enumerate(frame) if is_place(name)])
+    return each_place_once(frame, row)
 
 
 def holds_by(saying, frame, row):

@@ -107,6 +107,20 @@ def check_let(saying, frame):
         raise NoSaying("what is handed in as the saying is none that is let in the frame")
 
 
+def check_tree_frame(frame):
+    """Refuses what is no frame for trees."""
+    check_frame(frame)
+    if len(frame) > MOST_TREE_NAMES:
+        raise NoFrame("a frame for trees has at most three names")
+
+
+def check_tree_let(saying, frame):
+    """Refuses what is no frame for trees, and then what is no saying that is let in it for trees."""
+    check_tree_frame(frame)
+    if not is_tree_saying(saying, frame):
+        raise NoSaying("what is handed in as the saying is none that is let in the frame for trees")
+
+
 def untold_names(saying, told):
     """The names in the bare ones that are not told round them, each as often as it comes."""
     if saying[0] in TELLING_WORDS:

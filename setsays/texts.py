@@ -16,11 +16,15 @@ def shown(saying):
     return "(" + " ".join([shown(saying[1]), word, shown(saying[2])]) + ")"
 
 
-def words_of(text):
-    """The words of a text in order, brackets among them."""
-    spaced = text.replace("(", " ( ").replace(")", " ) ")
+def words_between_blanks(text):
+    """What stands in a text between blanks, in order."""
     # Without a written blank, split would take line feeds and tabs for blanks too.
-    return [word for word in spaced.split(" ") if word != ""]
+    return [word for word in text.split(" ") if word != ""]
+
+
+def words_of(text):
+    """The words of a saying's text in order, brackets among them."""
+    return words_between_blanks(text.replace("(", " ( ").replace(")", " ) "))
 
 
 def take_word(left):

@@ -63,27 +63,29 @@ def of_right_kinds(machine):
             and len(ends) == len(ways) >= 1 and all(end.__class__ is bool for end in ends))
 
 
-def made_up_bare(chance, known):
+def made_up_bare(chance, known, relations):
     places = [name for name in known if name[0].islower()]
     sets = [name for name in known if name[0].isupper()]
-    words = ["same", "ahead", "next"] * bool(places) + ["within"] * bool(sets) + ["in", "in"] * bool(places and sets)
+    words = ["same"] * bool(places) + list(relations) * bool(places)
+    words += ["within"] * bool(sets) + ["in", "in"] * bool(places and sets)
     word = chance.choice(words)
     kinds = {"in": (places, sets), "within": (sets, sets)}.get(word, (places, places))
     return (word, chance.choice(kinds[0]), chance.choice(kinds[1]))
 
 
-def made_up_saying(chance, known, deepest):
-    """A saying for rows where these names are known, somewhat deeper than told where none is."""
+def made_up_saying(chance, known, deepest, relations=("ahead", "next"), most=4):
+    """A saying where these names are known, somewhat deeper than told where none is; for rows if not told otherwise."""
     way = chance.random()
     if known and (deepest <= 1 or way < 0.2):
-        return made_up_bare(chance, known)
+        return made_up_bare(chance, known, relations)
     if known and way < 0.35:
-        return ("not", made_up_saying(chance, known, deepest - 1))
-    if known and (way < 0.65 or len(known) == 4):
-        both = [made_up_saying(chance, known, deepest - 1) for inner in range(2)]
+        return ("not", made_up_saying(chance, known, deepest - 1, relations, most))
+    if known and (way < 0.65 or len(known) == most):
+        both = [made_up_saying(chance, known, deepest - 1, relations, most) for inner in range(2)]
         return (chance.choice(("and", "or")), both[0], both[1])
     name = chance.choice([name for name in ("x", "y", "z", "X", "Y", "Z") if name not in known])
-    return (chance.choice(("some", "all")), name, made_up_saying(chance, known + [name], deepest - 1))
+    return (chance.choice(("some", "all")), name,
+            made_up_saying(chance, known + [name], deepest - 1, relations, most))
 
 
 class ProgramCase(unittest.TestCase):

@@ -51,6 +51,15 @@ def bound_names(tree):
     return names
 
 
+def top_names(part):
+    """The names that a part of a file's top binds there."""
+    if isinstance(part, ast.ImportFrom):
+        return [alias.name for alias in part.names]
+    if isinstance(part, ast.Assign):
+        return [target.id for target in part.targets]
+    return [part.name] if isinstance(part, (ast.FunctionDef, ast.ClassDef)) else []
+
+
 def methods_of(tree):
     classes = [node for node in ast.walk(tree) if isinstance(node, ast.ClassDef)]
     return {part.name for node in classes for part in node.body if isinstance(part, ast.FunctionDef)}
@@ -157,6 +166,18 @@ class LanguageTest(unittest.TestCase):
                         defined = bound_names(ast.Module(kept, []))
                         for alias in node.names:
                             self.assertIn(alias.name, defined)
+
+    def test_no_local_is_called_like_what_stands_at_the_top(self):
+        for path, text, tree in self.walk():
+            with self.subTest(path.name):
+                top = [name for part in tree.body for name in top_names(part)]
+                self.assertEqual(len(top), len(set(top)))
+                drawn = [name for part in tree.body if isinstance(part, (ast.ImportFrom, ast.ClassDef))
+                         for name in top_names(part)]
+                for part in tree.body:
+                    if isinstance(part, (ast.FunctionDef, ast.ClassDef)):
+                        inner = bound_names(part) - {part.name}
+                        self.assertEqual([name for name in sorted(inner) if name in drawn], [])
 
     def test_names(self):
         own_methods = set()
