@@ -435,6 +435,24 @@ class TooGreatTest(TreeCase):
                 self.check_refused(TooGreat, ask, one, other)
                 self.check_refused(TooGreat, ask, other, one)
 
+    def test_made_up_pairs_of_none_to_three_tracks(self):
+        chance = random.Random(311)
+        for tracks in range(4):
+            counts = {True: 0, False: 0}
+            while min(counts.values()) < 4:
+                one = made_up_tree_machine(chance, tracks, chance.choice((5, 6)))
+                # Thirty rooms at most are come to in pairs of five and six; in others mostly more.
+                other = made_up_tree_machine(chance, tracks, chance.choice((5, 6, 7)))
+                for ask, end_of in ((tree_met, all), (tree_joined, any)):
+                    try:
+                        wanted = met_by_pairs(one, other, end_of)
+                    except Great:
+                        counts[False] += 1
+                        self.check_refused(TooGreat, ask, one, other)
+                    else:
+                        counts[True] += 1
+                        self.assertEqual(ask(one, other), wanted)
+
     def test_what_is_not_come_to_does_not_count(self):
         mixed = with_rooms_mixed(random.Random(31), by_count(0, 5, (0,)))
         self.assertEqual(tree_met(mixed, by_count(0, 6, (0,))), by_count(0, 30, (0,)))
